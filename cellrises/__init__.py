@@ -1,0 +1,1 @@
+"""Cellrises: forms on cells, joined by measures, for all partings."""
