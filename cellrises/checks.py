@@ -1,7 +1,7 @@
 """Errors for plain arguments, shared by the modules of the interface."""
 
 from cellrises.arithmetic import is_between, is_fraction
-from cellrises.errors import InvalidDegree, InvalidDimension, InvalidFraction, InvalidNumber, InvalidSort
+from cellrises.errors import InvalidDegree, InvalidDimension, InvalidFraction, InvalidKind, InvalidNumber, InvalidSort
 
 
 def check_fraction(fraction):
@@ -10,9 +10,9 @@ def check_fraction(fraction):
         raise InvalidFraction(fraction)
 
 
-def check_dimension(dimension):
-    """Refuse what is no whole number from 0 to 3."""
-    if not is_between(dimension, 0, 3):
+def check_dimension(dimension, least=0, greatest=3):
+    """Refuse what is no whole number from `least` to `greatest`."""
+    if not is_between(dimension, least, greatest):
         raise InvalidDimension(dimension)
 
 
@@ -32,3 +32,14 @@ def check_least(least, dimension):
     """Refuse what is no dimension to begin with, from 0 to that of the cell."""
     if not is_between(least, 0, dimension):
         raise InvalidNumber(least)
+
+
+def check_told(kind, dimension, degree, sort):
+    """Refuse what is no kind, dimension from 1 on, degree and sort of a told pair of forms and tests."""
+    if not isinstance(kind, str) or kind not in ("whole", "trimmed"):
+        raise InvalidKind(kind)
+    check_dimension(dimension, 1)
+    check_degree(degree, 1 if kind == "trimmed" else 0)
+    check_sort(sort, dimension)
+    if degree == 0 and sort != dimension:
+        raise InvalidSort(sort)

@@ -1,11 +1,10 @@
 """Forms: what they are, their sums, products, rises and lowered forms, and their sums over the cell."""
 
-from math import factorial
-
-from cellrises.arithmetic import NIL, fraction_of, fraction_product, fraction_sum, fraction_times
+from cellrises.arithmetic import NIL, fraction_product, fraction_sum, fraction_times
 from cellrises.arithmetic import is_ascending, is_between, is_fraction, is_whole
 from cellrises.checks import check_fraction
 from cellrises.errors import InvalidForm, UnlikeForms
+from cellrises.polynomials import sum_of_powers
 from cellrises.terms import add_at, axes_together, form_from, powers_changed, powers_together, terms_by_pair
 
 
@@ -126,14 +125,5 @@ def sum_of(form):
         raise InvalidForm(form)
     total = NIL
     for _, powers, fraction in form[2]:
-        share = fraction_of(_factorials(powers), factorial(form[0] + sum(powers)))
-        total = fraction_sum(total, fraction_product(fraction, share))
+        total = fraction_sum(total, fraction_product(fraction, sum_of_powers(powers)))
     return total
-
-
-def _factorials(powers):
-    """The product of the factorials of powers."""
-    found = 1
-    for power in powers:
-        found = found * factorial(power)
-    return found

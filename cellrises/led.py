@@ -36,6 +36,11 @@ def trace(form, face):
     """The trace of a form on a face."""
     check_form(form)
     check_face(form, face)
+    return trace_on(form, face)
+
+
+def trace_on(form, face):
+    """The trace of a form on a face; nothing is checked."""
     return led_form(form, [_corner_place(form[0], corner) for corner in face])
 
 

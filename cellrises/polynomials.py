@@ -1,6 +1,8 @@
 """Polynomials as dicts from powers to fractions. Nothing is checked here."""
 
-from cellrises.arithmetic import ONE, fraction_product
+from math import factorial
+
+from cellrises.arithmetic import ONE, fraction_of, fraction_product
 from cellrises.terms import add_at, powers_together
 
 
@@ -31,7 +33,16 @@ def substituted(polynomial, numbers, dimension):
     for powers, fraction in polynomial.items():
         worth = {(0,) * dimension: fraction}
         for ladder, power in zip(ladders, powers):
-            worth = polynomial_product(worth, ladder[power])
+            if power > 0:
+                worth = polynomial_product(worth, ladder[power])
         for key, factor in worth.items():
             add_at(found, key, factor)
     return found
+
+
+def sum_of_powers(powers):
+    """The sum over the cell of the product of its numbers to these powers."""
+    above = 1
+    for power in powers:
+        above = above * factorial(power)
+    return fraction_of(above, factorial(len(powers) + sum(powers)))

@@ -8,6 +8,8 @@ from math import gcd, lcm
 
 from cellrises.arithmetic import fraction_of
 
+_PRIME = 2305843009213693951
+
 
 def stairs_of(rows, bound=()):
     """The base in stairs of what the span of rows has with all keys from `bound` on."""
@@ -22,11 +24,50 @@ def free_among(rows):
     """The indexes of the rows that are not in the span of those before them."""
     columns = _columns_of(rows)
     wholes, _ = _whole_rows(rows, columns)
+    if _are_free_by_remainders(wholes):
+        return list(range(len(rows)))
     leads, found = {}, []
     for index, row in enumerate(wholes):
         if _taken_in(row, leads, len(columns)):
             found.append(index)
     return found
+
+
+def _are_free_by_remainders(rows):
+    """Whether the remainders of rows in whole numbers beside a prime are free: then so are the rows."""
+    # What adds up to nought without a common divisor does so in remainders, too, and there not all is 0.
+    leads = {}
+    for row in rows:
+        rest = {column: row[column] % _PRIME for column in row if row[column] % _PRIME}
+        while rest and min(rest) in leads:
+            _take_remainders(rest, leads[min(rest)])
+        if not rest:
+            return False
+        factor = _inverse(rest[min(rest)])
+        leads[min(rest)] = {column: rest[column] * factor % _PRIME for column in rest}
+    return True
+
+
+def _take_remainders(row, lead):
+    """Take from a row of remainders the multiple of a lead, with 1 at its first, that leaves 0 there."""
+    factor = row[min(lead)]
+    for column in lead:
+        rest = (row.get(column, 0) - factor * lead[column]) % _PRIME
+        if rest:
+            row[column] = rest
+        else:
+            del row[column]
+
+
+def _inverse(number):
+    """The remainder that a number, no multiple of the prime, has to be multiplied by to make the remainder 1."""
+    near, far = number, _PRIME
+    times, others = 1, 0
+    while far:
+        whole = near // far
+        near, far = far, near - whole * far
+        times, others = others, times - whole * others
+    return times % _PRIME
 
 
 def first_outside(rows, others):

@@ -5,10 +5,10 @@ from itertools import combinations
 from cellrises.arithmetic import ONE
 from cellrises.checks import check_degree, check_dimension, check_sort
 from cellrises.errors import InvalidForms, UnlikeForms
+from cellrises.formrows import base_in_stairs, forms_behind, free_forms, row_behind, tables_of
 from cellrises.forms import check_form, is_form, lowered, rise
 from cellrises.led import check_face, faces_of, trace
-from cellrises.rows import first_outside, free_among, stairs_of
-from cellrises.terms import form_from, terms_by_pair
+from cellrises.rows import first_outside
 
 
 def are_forms(value):
@@ -30,33 +30,13 @@ def check_forms(forms):
 def base_of(forms):
     """The base in stairs of the span of forms."""
     check_forms(forms)
-    return _base(forms[0], forms)
-
-
-def _base(model, forms):
-    """The base in stairs of any number of forms, 0 let, of the dimension and sort that a model begins with."""
-    return _forms_from(model, stairs_of(_tables(forms)))
-
-
-def _tables(forms):
-    """The tables of forms."""
-    return [terms_by_pair(form) for form in forms]
-
-
-def _forms_from(model, tables):
-    """Forms of the dimension and sort that a model begins with, with the terms of tables."""
-    return tuple([form_from(model[0], model[1], table) for table in tables])
+    return base_in_stairs(forms[0], forms)
 
 
 def rank_of(forms):
     """How many forms the base in stairs has."""
     check_forms(forms)
-    return len(_free(forms))
-
-
-def _free(forms):
-    """Those of forms that are not in the span of those before them."""
-    return [forms[index] for index in free_among(_tables(forms))]
+    return len(free_forms(forms))
 
 
 def is_within(forms, form):
@@ -64,7 +44,7 @@ def is_within(forms, form):
     check_forms(forms)
     check_form(form)
     _check_like(forms[0], form)
-    return first_outside(_tables((form,)), _tables(forms)) is None
+    return first_outside(tables_of((form,)), tables_of(forms)) is None
 
 
 def _check_like(form, other):
@@ -83,7 +63,7 @@ def stray_of(forms, others):
     check_forms(forms)
     check_forms(others)
     _check_like(forms[0], others[0])
-    index = first_outside(_tables(forms), _tables(others))
+    index = first_outside(tables_of(forms), tables_of(others))
     return None if index is None else forms[index]
 
 
@@ -93,32 +73,24 @@ def common(forms, others):
     check_forms(others)
     _check_like(forms[0], others[0])
     # A sum of both that is nought ahead is one of forms' sums that is one of others', too: it stands behind.
-    rows = [_row(table, [table]) for table in _tables(_free(forms))]
-    rows.extend([_row({}, [table]) for table in _tables(_free(others))])
-    return _forms_behind(forms[0], rows)
+    nought = (forms[0][0], forms[0][1], ())
+    rows = [_row(form, [form]) for form in free_forms(forms)]
+    rows.extend([_row(nought, [form]) for form in free_forms(others)])
+    return forms_behind(forms[0], rows)
 
 
-def _row(table, images):
-    """A row of a table and, ahead of all of it, its images."""
-    row = {(1, pair): table[pair] for pair in table}
+def _row(form, images):
+    """A row of a form and, ahead of all of it, its images."""
+    row = row_behind(form)
     for at, image in enumerate(images):
-        for pair in image:
-            row[(0, at, pair)] = image[pair]
+        for axes, powers, fraction in image[2]:
+            row[(0, at, (axes, powers))] = fraction
     return row
-
-
-def _forms_behind(model, rows):
-    """The base in stairs of what the span of rows has with no images ahead."""
-    tables = []
-    for row in stairs_of(rows, (1,)):
-        tables.append({key[1]: row[key] for key in row})
-    return _forms_from(model, tables)
 
 
 def _forms_with_noughts(model, forms, images):
     """The base in stairs of the sums of free forms whose images, a list for each form, all are nought."""
-    rows = [_row(terms_by_pair(form), _tables(own)) for form, own in zip(forms, images)]
-    return _forms_behind(model, rows)
+    return forms_behind(model, [_row(form, own) for form, own in zip(forms, images)])
 
 
 def rises_of(forms):
@@ -126,16 +98,16 @@ def rises_of(forms):
     check_forms(forms)
     if forms[0][1] == forms[0][0]:
         raise InvalidForms(0)
-    rises = [rise(form) for form in _free(forms)]
-    return _base((forms[0][0], forms[0][1] + 1), rises)
+    rises = [rise(form) for form in free_forms(forms)]
+    return base_in_stairs((forms[0][0], forms[0][1] + 1), rises)
 
 
 def closed_of(forms):
     """The base in stairs of the closed forms of a span."""
     check_forms(forms)
     if forms[0][1] == forms[0][0]:
-        return _base(forms[0], forms)
-    free = _free(forms)
+        return base_in_stairs(forms[0], forms)
+    free = free_forms(forms)
     return _forms_with_noughts(forms[0], free, [[rise(form)] for form in free])
 
 
@@ -143,8 +115,8 @@ def traces_of(forms, face):
     """The base in stairs of the traces of forms on a face."""
     check_forms(forms)
     check_face(forms[0], face)
-    traces = [trace(form, face) for form in _free(forms)]
-    return _base((len(face) - 1, forms[0][1]), traces)
+    traces = [trace(form, face) for form in free_forms(forms)]
+    return base_in_stairs((len(face) - 1, forms[0][1]), traces)
 
 
 def noughts_on_rim(forms):
@@ -152,9 +124,9 @@ def noughts_on_rim(forms):
     check_forms(forms)
     dimension, sort = forms[0][:2]
     if sort == dimension:
-        return _base(forms[0], forms)
+        return base_in_stairs(forms[0], forms)
     sides = faces_of(dimension, dimension - 1)[:-1]
-    free = _free(forms)
+    free = free_forms(forms)
     return _forms_with_noughts(forms[0], free, [[trace(form, side) for side in sides] for form in free])
 
 
@@ -193,7 +165,7 @@ def trimmed_span(dimension, degree, sort):
     forms = _single_terms(dimension, degree - 1, sort)
     if sort < dimension:
         forms.extend([lowered(form) for form in _single_terms(dimension, degree - 1, sort + 1)])
-    return _base((dimension, sort), forms)
+    return base_in_stairs((dimension, sort), forms)
 
 
 def is_exact(forms, others):
@@ -208,5 +180,5 @@ def closed_stray(forms, others):
     if forms[0][0] != others[0][0] or forms[0][1] + 1 != others[0][1]:
         raise UnlikeForms()
     closed = closed_of(others)
-    index = first_outside(_tables(closed), _tables([rise(form) for form in _free(forms)]))
+    index = first_outside(tables_of(closed), tables_of([rise(form) for form in free_forms(forms)]))
     return None if index is None else closed[index]

@@ -157,6 +157,17 @@ def made_place(chance, dimension):
     return tuple(Fraction(chance.randint(-5, 5), chance.randint(1, 4)) for _ in range(dimension))
 
 
+def led_arrow(places, arrow):
+    """The arrow that a straight map makes of one."""
+    steps = [[far - near for far, near in zip(place, places[0])] for place in places[1:]]
+    return tuple(sum((worth * step[at] for worth, step in zip(arrow, steps)), Fraction(0)) for at in range(len(places[0])))
+
+
+def led_place(places, place):
+    """The place to which a straight map leads one."""
+    return tuple(begin + more for begin, more in zip(places[0], led_arrow(places, place)))
+
+
 def integral(polynomial, dimension):
     """The integral over the cell, a number after another: x_n from 0 to 1 less the others, and so on."""
     while dimension > 0:
@@ -226,6 +237,26 @@ def same_span(forms, others):
 def corner(dimension, index):
     """The place of a corner."""
     return tuple(Fraction(int(axis == index)) for axis in range(1, dimension + 1))
+
+
+def bent(value):
+    """The value with one thing bent, at each of its places: what it stands for is wrong wherever that is."""
+    found = [None, True, False, [value], (value,), str(value)]
+    if isinstance(value, tuple):
+        found += [0, 10 ** 399, list(value), value + (None,), (None,) + value, dict(enumerate(value))]
+        for at, part in enumerate(value):
+            found += [value[:at] + (wrong,) + value[at + 1:] for wrong in bent(part)]
+    return found
+
+
+def both_ways(call, *given):
+    """What a call returns, by position and by name and each time; nothing is changed."""
+    before = repr(given)
+    names = call.__code__.co_varnames[:call.__code__.co_argcount]
+    found = call(*given)
+    assert call(**dict(reversed(list(zip(names, given))))) == found
+    assert call(*given) == found and repr(given) == before
+    return found
 
 
 def error_of(call, *given, **named):

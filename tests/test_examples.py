@@ -34,7 +34,7 @@ def outcome(source, names):
 class Examples(unittest.TestCase):
     def test_all(self):
         names = {}
-        for name, many in (("forms", 8), ("spans", 7)):
+        for name, many in (("forms", 8), ("spans", 7), ("measures", 9), ("elements", 4), ("measured", 4), ("partings", 4)):
             lines = examples(name)
             self.assertEqual(len(lines), many)
             for source, expected in lines:

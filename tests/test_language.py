@@ -48,6 +48,17 @@ INTERFACE = {
         "traces_of": "forms face", "noughts_on_rim": "forms", "whole_span": "dimension degree sort",
         "trimmed_span": "dimension degree sort", "is_exact": "forms others", "closed_stray": "forms others",
     },
+    "measures": {
+        "is_weight": "dimension sort value", "measure": "form weight", "table_of": "forms weights", "settles": "forms weights",
+        "missed_form": "forms weights", "tied_weights": "forms weights", "base_beside": "forms weights",
+        "form_with": "forms weights numbers",
+    },
+    "elements": {
+        "is_element": "value", "told_tests": "kind dimension degree sort", "told_element": "kind dimension degree sort",
+        "weights_of": "element", "settles_cell": "element", "living_on": "element face",
+    },
+    "measured": {"measured": "element form", "keeps_rises": "element other", "parting_form": "element other"},
+    "partings": {"is_parting": "value", "faces_in": "parting dimension", "common_face": "parting index other"},
 }
 
 

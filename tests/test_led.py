@@ -1,12 +1,13 @@
 """Faces and traces, as far as spans need them."""
 
 import unittest
-from fractions import Fraction
 from itertools import combinations
 
 from cellrises.forms import is_form, plus, product, rise
 from cellrises.led import faces_of, is_face, led_form, trace
-from tests.helpers import CELLS, as_pair, chances, corner, junk, made_form, made_place, value_at
+from tests.helpers import (
+    CELLS, as_pair, chances, corner, junk, led_arrow, led_place, made_form, made_place, value_at,
+)
 
 ONE = (1, 1)
 
@@ -32,17 +33,6 @@ class Faces(unittest.TestCase):
                                                  range(least + 1, dimension + 2)))
                 self.assertEqual(found, tuple(sorted(set(found), key=lambda face: (len(face), face))))
                 self.assertTrue(all(is_face(dimension, face) and len(face) > least for face in found))
-
-
-def led_arrow(places, arrow):
-    """The arrow that a straight map makes of one."""
-    steps = [[far - near for far, near in zip(place, places[0])] for place in places[1:]]
-    return tuple(sum((worth * step[at] for worth, step in zip(arrow, steps)), Fraction(0)) for at in range(len(places[0])))
-
-
-def led_place(places, place):
-    """The place to which a straight map leads one."""
-    return tuple(begin + more for begin, more in zip(places[0], led_arrow(places, place)))
 
 
 class Traces(unittest.TestCase):

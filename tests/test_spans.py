@@ -153,6 +153,22 @@ class Bases(unittest.TestCase):
             self.assertTrue(is_in_stairs(base))
             self.assertTrue(same_span(base, forms))
 
+    def test_numbers_that_remainders_do_not_tell(self):
+        """Rows that are alike, or nought, but for multiples of a prime number: of any that might be reckoned with."""
+        seen = set()
+        for prime in (2, 3, 5, 7, 2 ** 13 - 1, 2 ** 31 - 1, 2 ** 61 - 1, 2 ** 89 - 1, 10 ** 9 + 7, 10 ** 9 + 9, 998244353):
+            chance = chances("prime", prime)
+            for many in (1, 2, 2, 2, 3, 3, 3, 4):
+                told = (0, 0, 1, -1, 2, prime, -prime, 2 * prime, prime + 1, 1 - prime, prime * prime, Fraction(1, prime))
+                forms = [form_of_numbers(2, 1, {pair: chance.choice(told) for pair in all_pairs(2, 1, 1)[:many]})
+                         for _ in range(many)]
+                forms.append(together(forms, [chance.choice(told[:8]) for _ in forms]))
+                for own in (forms, forms[:-1], forms[1:], forms[::-1][:2]):
+                    if own:
+                        self.assertEqual(rank_of(tuple(own)), rank_of_forms(own))
+                        seen.add((len(own), rank_of_forms(own)))
+        self.assertLessEqual({(2, 1), (2, 2), (3, 2), (3, 3), (4, 3)}, seen)
+
 
 class Within(unittest.TestCase):
     def test_sums_are_within(self):
