@@ -38,11 +38,11 @@ def check_element(element):
 def told_tests(kind, dimension, degree, sort):
     """The told tests, a tuple for each dimension from 0 to that of the cell."""
     check_told(kind, dimension, degree, sort)
-    return tuple([_tests_on(kind, own, degree, sort) for own in range(dimension + 1)])
+    return tuple([tests_on(kind, own, degree, sort) for own in range(dimension + 1)])
 
 
-def _tests_on(kind, dimension, degree, sort):
-    """The told tests on the cell of a dimension."""
+def tests_on(kind, dimension, degree, sort):
+    """The told tests on the cell of a dimension; what tells them is not checked."""
     if dimension < sort:
         return ()
     if kind == "trimmed":
@@ -57,9 +57,12 @@ def _tests_on(kind, dimension, degree, sort):
 def told_element(kind, dimension, degree, sort):
     """The told element."""
     tests = told_tests(kind, dimension, degree, sort)
-    if kind == "whole":
-        return (whole_span(dimension, degree, sort), tests)
-    return (trimmed_span(dimension, degree, sort), tests)
+    return (told_forms(kind, dimension, degree, sort), tests)
+
+
+def told_forms(kind, dimension, degree, sort):
+    """The base of a told span; the kind is not checked."""
+    return whole_span(dimension, degree, sort) if kind == "whole" else trimmed_span(dimension, degree, sort)
 
 
 def weights_of(element):

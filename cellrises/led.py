@@ -1,12 +1,13 @@
-"""Faces of cells, and forms led to them."""
+"""Faces of cells, forms led by straight maps, traces, and sums over faces."""
 
 from itertools import combinations
 
-from cellrises.arithmetic import NIL, ONE, fraction_product, fraction_sum, fraction_times, is_ascending
+from cellrises.arithmetic import NIL, ONE, fraction_product, fraction_sum, fraction_times
+from cellrises.arithmetic import is_ascending, is_between, is_fraction
 from cellrises.checks import check_dimension, check_least
-from cellrises.errors import InvalidFace
-from cellrises.forms import check_form
-from cellrises.polynomials import substituted
+from cellrises.errors import InvalidCorners, InvalidFace
+from cellrises.forms import check_form, sum_of
+from cellrises.polynomials import over_one, substituted
 from cellrises.terms import add_at, axes_together, form_from
 
 
@@ -26,6 +27,23 @@ def faces_of(dimension, least):
     return tuple(found)
 
 
+def led(form, corners):
+    """The form led by the straight map that leads the corners of a cell, in order, to these places."""
+    check_form(form)
+    if not _are_places(form, corners):
+        raise InvalidCorners(corners)
+    return led_form(form, corners)
+
+
+def _are_places(form, value):
+    """Whether a value is a tuple of places of a form's cell, enough of them for its sort, 4 at most."""
+    if not isinstance(value, tuple) or not is_between(len(value), form[1] + 1, 4):
+        return False
+    if not all(isinstance(place, tuple) and len(place) == form[0] for place in value):
+        return False
+    return all([is_fraction(number) for place in value for number in place])
+
+
 def check_face(form, face):
     """Refuse what is no face of the form's cell, or of a dimension below the form's sort."""
     if not is_face(form[0], face) or len(face) - 1 < form[1]:
@@ -37,6 +55,15 @@ def trace(form, face):
     check_form(form)
     check_face(form, face)
     return trace_on(form, face)
+
+
+def sum_over(form, face):
+    """The sum of a form over a face whose dimension is the form's sort."""
+    check_form(form)
+    check_face(form, face)
+    if len(face) - 1 > form[1]:
+        raise InvalidFace(face)
+    return sum_of(trace_on(form, face))
 
 
 def trace_on(form, face):
@@ -53,7 +80,7 @@ def led_form(form, places):
     """The form led by the straight map that leads corners to these places; nothing is checked."""
     begin, steps = places[0], [_difference(place, places[0]) for place in places[1:]]
     dimension = len(steps)
-    numbers = [_number_of_map(begin[at], [step[at] for step in steps]) for at in range(form[0])]
+    numbers = [over_one(_number_of_map(begin[at], [step[at] for step in steps])) for at in range(form[0])]
     table = {}
     for axes, polynomial in _polynomials_by_axes(form).items():
         worths = substituted(polynomial, numbers, dimension)

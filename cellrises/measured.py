@@ -34,7 +34,7 @@ def measured(element, form):
     return found
 
 
-def _check_both(element, other):
+def check_rising(element, other):
     """Refuse two elements that are none, that do not go together, or of which one does not settle."""
     _check_tests(element)
     _check_tests(other)
@@ -47,13 +47,13 @@ def _check_both(element, other):
 
 def keeps_rises(element, other):
     """Whether for all forms the rise of the measured form is the measured form of the rise."""
-    _check_both(element, other)
+    check_rising(element, other)
     return _risen_outside(element, other) is None and _unkept_test(element, other) is None
 
 
 def parting_form(element, other):
     """A form for which the rise of the measured form is not the measured form of the rise; None."""
-    _check_both(element, other)
+    check_rising(element, other)
     form = _risen_outside(element, other)
     if form is not None:
         return form

@@ -44,7 +44,7 @@ def _check_weights(form, weights):
             raise InvalidWeights(index)
 
 
-def _check_both(forms, weights):
+def check_weighed(forms, weights):
     """Refuse what are no forms, and no weights for them."""
     check_forms(forms)
     _check_weights(forms[0], weights)
@@ -52,19 +52,19 @@ def _check_both(forms, weights):
 
 def table_of(forms, weights):
     """The table: in row i, at place k, the measure of form k by weight i."""
-    _check_both(forms, weights)
+    check_weighed(forms, weights)
     return tuple([tuple(row) for row in table_rows(forms, weights)])
 
 
 def settles(forms, weights):
     """Whether weights settle forms."""
-    _check_both(forms, weights)
+    check_weighed(forms, weights)
     return is_settling(forms, weights)
 
 
 def missed_form(forms, weights):
     """A form of the span, not nought, whose measures all are 0; None."""
-    _check_both(forms, weights)
+    check_weighed(forms, weights)
     lighter, _ = whole_weights(weights)
     missed = forms_behind(forms[0], rows_with_measures(whole_forms(forms), lighter))
     return missed[0] if missed else None
@@ -72,7 +72,7 @@ def missed_form(forms, weights):
 
 def tied_weights(forms, weights):
     """Numbers, not all 0, with which the measures add up to 0 for all forms of the span; None."""
-    _check_both(forms, weights)
+    check_weighed(forms, weights)
     lighter, factors = whole_weights(weights)
     rows = []
     for at, measures in enumerate(table_rows(whole_forms(forms), lighter)):
@@ -85,7 +85,7 @@ def tied_weights(forms, weights):
 
 def base_beside(forms, weights):
     """For each weight the form of the span with the measure 1 by it and 0 by all others."""
-    _check_both(forms, weights)
+    check_weighed(forms, weights)
     found = settled_forms(forms, weights)
     if found is None:
         raise NotSettled()
@@ -94,15 +94,15 @@ def base_beside(forms, weights):
 
 def form_with(forms, weights, numbers):
     """The form of the span with these measures."""
-    _check_both(forms, weights)
-    _check_numbers(numbers, len(weights))
+    check_weighed(forms, weights)
+    check_numbers(numbers, len(weights))
     found = form_measuring(forms, weights, numbers)
     if found is None:
         raise NotSettled()
     return found
 
 
-def _check_numbers(numbers, many):
+def check_numbers(numbers, many):
     """Refuse what is no tuple of so many fractions."""
     if not isinstance(numbers, tuple) or len(numbers) != many:
         raise InvalidNumbers(None)

@@ -3,6 +3,7 @@
 from cellrises.arithmetic import is_ascending, is_between
 from cellrises.checks import check_dimension
 from cellrises.errors import InvalidIndex, InvalidParting
+from cellrises.landfaces import common_corners, face_of_cell
 from cellrises.led import faces_of
 
 
@@ -32,7 +33,7 @@ def faces_in(parting, dimension):
     for face in faces_of(parting[0], dimension):
         if len(face) == dimension + 1:
             for cell in parting[1]:
-                found[tuple([cell[corner] for corner in face])] = True
+                found[face_of_cell(cell, face)] = True
     return tuple(sorted(found))
 
 
@@ -41,7 +42,7 @@ def common_face(parting, index, other):
     check_parting(parting)
     _check_index(parting, index)
     _check_index(parting, other)
-    return tuple([corner for corner in parting[1][index] if corner in parting[1][other]])
+    return common_corners(parting[1][index], parting[1][other])
 
 
 def _check_index(parting, index):

@@ -41,10 +41,15 @@ def rank_of(forms):
 
 def is_within(forms, form):
     """Whether a form is in the span of forms."""
+    check_form_beside(forms, form)
+    return first_outside(tables_of((form,)), tables_of(forms)) is None
+
+
+def check_form_beside(forms, form):
+    """Refuse what are no forms, no form, or unlike ones."""
     check_forms(forms)
     check_form(form)
     _check_like(forms[0], form)
-    return first_outside(tables_of((form,)), tables_of(forms)) is None
 
 
 def _check_like(form, other):
@@ -175,10 +180,15 @@ def is_exact(forms, others):
 
 def closed_stray(forms, others):
     """A closed form of the span of others that is no rise of a form of that of forms; None."""
+    check_one_behind(forms, others)
+    closed = closed_of(others)
+    index = first_outside(tables_of(closed), tables_of([rise(form) for form in free_forms(forms)]))
+    return None if index is None else closed[index]
+
+
+def check_one_behind(forms, others):
+    """Refuse what are no forms, or others that are not of the same dimension and the sort one greater."""
     check_forms(forms)
     check_forms(others)
     if forms[0][0] != others[0][0] or forms[0][1] + 1 != others[0][1]:
         raise UnlikeForms()
-    closed = closed_of(others)
-    index = first_outside(tables_of(closed), tables_of([rise(form) for form in free_forms(forms)]))
-    return None if index is None else closed[index]

@@ -4,6 +4,11 @@ import unittest
 from pathlib import Path
 
 FOLDER = Path(__file__).parent / "examples"
+# In the document's order: later ones use names of earlier ones.
+MODULES = (
+    ("forms", 8), ("led", 4), ("closed", 2), ("spans", 7), ("measures", 9), ("elements", 4), ("meetings", 3), ("measured", 4),
+    ("chains", 8), ("joined", 7), ("potentials", 4), ("certificates", 4),
+)
 
 
 def examples(name):
@@ -32,9 +37,12 @@ def outcome(source, names):
 
 
 class Examples(unittest.TestCase):
+    def test_no_file_is_left_out(self):
+        self.assertEqual(sorted(path.stem for path in FOLDER.iterdir()), sorted(name for name, _ in MODULES))
+
     def test_all(self):
         names = {}
-        for name, many in (("forms", 8), ("spans", 7), ("measures", 9), ("elements", 4), ("measured", 4), ("partings", 4)):
+        for name, many in MODULES:
             lines = examples(name)
             self.assertEqual(len(lines), many)
             for source, expected in lines:

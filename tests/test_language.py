@@ -41,7 +41,11 @@ INTERFACE = {
         "is_form": "value", "degree_of": "form", "plus": "form other", "times_number": "form fraction", "product": "form other",
         "rise": "form", "lowered": "form", "sum_of": "form",
     },
-    "led": {"is_face": "dimension value", "faces_of": "dimension least", "trace": "form face"},
+    "led": {
+        "is_face": "dimension value", "faces_of": "dimension least", "led": "form corners", "trace": "form face",
+        "sum_over": "form face",
+    },
+    "closed": {"is_closed": "form", "risen_from": "form"},
     "spans": {
         "are_forms": "value", "base_of": "forms", "rank_of": "forms", "is_within": "forms form", "lies_in": "forms others",
         "stray_of": "forms others", "common": "forms others", "rises_of": "forms", "closed_of": "forms",
@@ -58,7 +62,32 @@ INTERFACE = {
         "weights_of": "element", "settles_cell": "element", "living_on": "element face",
     },
     "measured": {"measured": "element form", "keeps_rises": "element other", "parting_form": "element other"},
+    "meetings": {
+        "joins": "element", "jumping_pair": "element", "joins_against": "element test", "against_pair": "element test",
+        "count_with": "element counts",
+    },
     "partings": {"is_parting": "value", "faces_in": "parting dimension", "common_face": "parting index other"},
+    "chains": {
+        "border": "parting chain", "is_round": "parting held chain", "rounds_of": "parting held dimension",
+        "holes": "parting held dimension", "bounding": "parting held chain", "weights_against": "parting held chain",
+    },
+    "joined": {
+        "is_joined": "parting joined", "count_of": "parting held kind degree sort", "numbers_of": "parting kind degree joined",
+        "joined_with": "parting kind degree sort numbers", "is_held": "parting held joined", "rises": "parting joined",
+        "sum_along": "parting joined chain",
+    },
+    "potentials": {
+        "potential": "parting held kind degree joined", "barring_round": "parting held kind degree joined",
+        "closed_count": "parting held kind degree sort", "risen_count": "parting held kind degree sort",
+    },
+    "checker": {"accepts": "claim paper"},
+    "certificates": {
+        "certify_rise": "form", "certify_within": "forms form", "certify_exact": "forms others",
+        "certify_settling": "forms weights", "certify_joining": "element", "certify_against": "element test",
+        "certify_rises": "element other", "certify_round": "parting held chain", "certify_bounding": "parting held chain",
+        "certify_holes": "parting held dimension", "certify_joined": "parting joined",
+        "certify_risen": "parting held kind degree joined",
+    },
 }
 
 
@@ -101,6 +130,17 @@ def bound(tree):
         elif isinstance(node, ast.Assign):
             names += [target.id for target in node.targets]
     return names
+
+
+def is_plain(value, names):
+    """Whether a value at module level is a plain one, or a dict from texts to functions that are told above it."""
+    if isinstance(value, ast.Dict) and all(isinstance(each, ast.Name) for each in value.values):
+        return all(each.id in names for each in value.values) and all(isinstance(each, ast.Constant) for each in value.keys)
+    try:
+        ast.literal_eval(value)
+    except ValueError:
+        return False
+    return True
 
 
 def local_names(function):
@@ -187,7 +227,7 @@ class Text(unittest.TestCase):
             for node in tree.body[1:]:
                 self.assertIsInstance(node, (ast.ImportFrom, ast.FunctionDef, ast.ClassDef, ast.Assign), name)
                 if isinstance(node, ast.Assign):
-                    ast.literal_eval(node.value)
+                    self.assertTrue(is_plain(node.value, names[:names.index(node.targets[0].id)]), (name, node.lineno))
 
     def test_statements(self):
         for place, node in nodes(ast.stmt):

@@ -3,6 +3,7 @@
 import unittest
 from fractions import Fraction
 
+from cellrises.closed import is_closed
 from cellrises.elements import is_element, settles_cell, told_element, weights_of
 from cellrises.forms import degree_of, is_form, plus, product, rise, times_number
 from cellrises.led import trace
@@ -101,6 +102,15 @@ class Measured(unittest.TestCase):
             self.assertEqual(measured(element, plus(form, other)), plus(own, more))
             self.assertEqual(measured(element, times_number(form, factor)), times_number(own, factor))
 
+    def test_the_trace_is_measured_by_the_told_element_of_the_face(self):
+        for kind, dimension, degree, sort in SMALL:
+            element = told_element(kind, dimension, degree, sort)
+            chance = chances("trace of measured", kind, dimension, degree, sort)
+            for face in faces(dimension, max(sort, 1))[:-1]:
+                form = made_form(chance, dimension, sort, 4, 4)
+                own = told_element(kind, len(face) - 1, degree, sort)
+                self.assertEqual(trace(measured(element, form), face), measured(own, trace(form, face)))
+
     def test_by_hand(self):
         square, cube = (1, 0, (((), (2,), ONE),)), (1, 0, (((), (3,), ONE),))
         self.assertEqual(measured(HAT, square), RISING)
@@ -165,6 +175,18 @@ class ToldRises(unittest.TestCase):
                     self.assertIs(keeps_rises(told_element(*told), told_element(*other)), True)
                     self.assertIsNone(parting_form(told_element(*told), told_element(*other)))
         self.assertGreater(many, 60)
+
+    def test_closed_forms_are_measured_to_closed_ones(self):
+        many = 0
+        for told, other in told_pairs():
+            if told_to_keep(told, other) and small(told):
+                chance, element = chances("closed", told, other), told_element(*told)
+                forms = [rise(made_form(chance, told[1], told[3] - 1, 5))] if told[3] > 0 else [whole_span(told[1], 0, 0)[0]]
+                for form in (*forms, (*element[0][0][:2], ())):
+                    many += 1
+                    self.assertIs(is_closed(form), True)
+                    self.assertIs(is_closed(measured(element, form)), True)
+        self.assertGreater(many, 50)
 
     def test_told_ones_by_all_forms_up_to_the_degree(self):
         for told, other in told_pairs():

@@ -6,42 +6,8 @@ from itertools import combinations
 from cellrises.led import faces_of
 from cellrises.errors import InvalidDimension, InvalidIndex, InvalidParting
 from cellrises.partings import common_face, faces_in, is_parting
-from tests.helpers import Refusals, bent, both_ways, chances, junk
-
-SQUARE, RING, LINE = (2, ((0, 1, 2), (1, 2, 3))), (1, ((0, 1), (0, 2), (1, 2))), (1, ((0, 1),))
-BOTH = (3, ((0, 1, 2, 3), (0, 1, 2, 4)))
-MANY = (1, tuple((0, at) for at in range(1, 13)))
-
-
-def made_parting(chance, dimension, most=7):
-    """Some parting; now and then corner numbers are far apart, or many cells have one side."""
-    numbers = chance.choice((range(most), range(0, 1000, 37), (0, 1, 998, 999, 500, 7)))
-    cells = list(combinations(sorted(numbers)[:most], dimension + 1))
-    return (dimension, tuple(sorted(chance.sample(cells, min(len(cells), chance.randint(1, 12))))))
-
-
-def partings():
-    """Told partings and made ones."""
-    found = [SQUARE, RING, LINE, BOTH, MANY, (1, ((0, 999),)), (2, ((5, 7, 9), (10, 11, 999))), (3, ((0, 1, 2, 3), (3, 4, 5, 6)))]
-    found += [(2, ((0, 1, 2), (0, 1, 3), (0, 1, 4), (0, 1, 5))), (3, ((0, 1, 2, 3), (2, 3, 4, 5), (10, 20, 30, 40)))]
-    for dimension in (1, 2, 3):
-        chance = chances("partings", dimension)
-        found += [made_parting(chance, dimension) for _ in range(30)]
-    return found
-
-
-def wrong_partings():
-    """Values that are no partings."""
-    wrong = junk() + bent(SQUARE) + bent(LINE) + bent(BOTH)
-    wrong += [(), (2,), SQUARE[1], (SQUARE[1], 2), (*SQUARE, ()), (2, SQUARE[1], SQUARE[1]), [2, SQUARE[1]], (2, list(SQUARE[1]))]
-    wrong += [(0, ((0,), (1,))), (4, ((0, 1, 2, 3, 4),)), (-1, ((),)), (0, ()), (1, ()), (2, ()), (3, ()), (10 ** 300, SQUARE[1])]
-    wrong += [(1, SQUARE[1]), (3, SQUARE[1]), (2, ((0, 1), (1, 2))), (2, ((0, 1, 2), (1, 2))), (2, ((0, 1, 2), (1, 2, 3, 4)))]
-    wrong += [(2, ((1, 2, 3), (0, 1, 2))), (2, ((0, 1, 2), (0, 1, 2))), (2, ((0, 1, 2), (1, 2, 3), (1, 2, 3)))]
-    wrong += [(2, ((0, 2, 1),)), (2, ((0, 1, 1),)), (2, ((2, 1, 0),)), (2, ((-1, 0, 1),)), (2, ((0, 1, 1000),))]
-    wrong += [(2, ((0, 1, 2), (1, 2, 1000))), (1, ((0, 10 ** 300),)), (1, ((-10 ** 300, 0),)), (1, (MANY[1][::-1]))]
-    wrong += [(1, (*MANY[1], (0, 13))), (1, (*MANY[1], (1, 2))), (1, (*MANY[1], *((at, at + 1) for at in range(1, 200))))]
-    wrong += [(2, ((0, 1, 2), [1, 2, 3])), (2, ({0: 1, 1: 2, 2: 3},)), (2, ("012",)), (2, (b"\0\1\2",)), (1, ((0, 1), None))]
-    return wrong
+from tests.helpers import Refusals, both_ways, junk
+from tests.lands import BOTH, LINE, MANY, RING, SQUARE, partings, wrong_partings
 
 
 class IsParting(unittest.TestCase):

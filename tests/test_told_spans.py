@@ -5,7 +5,7 @@ from fractions import Fraction
 from math import comb
 
 from cellrises.forms import degree_of, lowered, product, rise, sum_of
-from cellrises.led import faces_of, led_form, trace
+from cellrises.led import faces_of, led, trace
 from cellrises.spans import (
     base_of, closed_stray, is_exact, lies_in, noughts_on_rim, rises_of, traces_of, trimmed_span, whole_span,
 )
@@ -92,9 +92,9 @@ class TracesAndMaps(unittest.TestCase):
                 places = [made_place(chance, dimension) for _ in range(dimension + 1)]
                 while in_one_flat(places):
                     places = [made_place(chance, dimension) for _ in range(dimension + 1)]
-                map_places = [tuple(as_pair(worth) for worth in place) for place in places]
+                map_places = tuple(tuple(as_pair(worth) for worth in place) for place in places)
                 found = spans(dimension, degree, sort)
-                self.assertEqual(base_of(tuple(led_form(form, map_places) for form in found)), found)
+                self.assertEqual(base_of(tuple(led(form, map_places) for form in found)), found)
 
 
 class Rim(unittest.TestCase):

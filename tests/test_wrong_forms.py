@@ -2,10 +2,12 @@
 
 import unittest
 
-from cellrises.errors import InvalidDimension, InvalidFace, InvalidForm, InvalidFraction, InvalidNumber, UnlikeForms
+from cellrises.errors import (
+    InvalidCorners, InvalidDimension, InvalidFace, InvalidForm, InvalidFraction, InvalidNumber, UnlikeForms,
+)
 from cellrises.forms import degree_of, lowered, plus, product, rise, sum_of, times_number
-from cellrises.led import faces_of, is_face, trace
-from tests.helpers import CELLS, Refusals, chances, error_of, junk, made_form, wrong_forms, wrong_fractions
+from cellrises.led import faces_of, is_face, led, sum_over, trace
+from tests.helpers import CELLS, Refusals, bent, chances, error_of, junk, made_form, wrong_forms, wrong_fractions
 
 ONE = (1, 1)
 FORM = (2, 1, (((1,), (0, 1), (-1, 1)), ((2,), (1, 0), ONE)))
@@ -106,6 +108,48 @@ class Faces(Refusals):
     def test_form_first(self):
         for wrong in wrong_forms():
             self.refuses(InvalidForm, {"given": wrong}, trace, wrong, None)
+            self.refuses(InvalidForm, {"given": wrong}, sum_over, wrong, None)
+            self.refuses(InvalidForm, {"given": wrong}, sum_over, wrong, (0, 1))
+
+    def test_no_face_to_sum_over(self):
+        for wrong in junk() + [(), (0, 0), (1, 0), (0, 3), (-1, 0), (True, 2), (0, True), [0, 1], (0, "1"), (0, 1, 2, 3)]:
+            self.refuses(InvalidFace, {"given": wrong}, sum_over, FORM, wrong)
+
+    def test_a_face_of_another_dimension_than_the_sort(self):
+        for dimension, sort in CELLS:
+            for face in faces_of(dimension, 0):
+                form = (dimension, sort, ())
+                if len(face) - 1 != sort:
+                    self.refuses(InvalidFace, {"given": face}, sum_over, form, face)
+                else:
+                    self.assertIsNone(error_of(sum_over, form, face))
+
+
+class Corners(Refusals):
+    RIGHT = (((0, 1), (1, 2)), ((-2, 3), (0, 1)), ((5, 1), (1, 1)))
+
+    def test_no_places(self):
+        wrong = junk() + bent(self.RIGHT) + [(), self.RIGHT[:1], self.RIGHT[0], self.RIGHT + self.RIGHT[:2], self.RIGHT * 2]
+        wrong += [self.RIGHT[:2] + (((0, 1),),), self.RIGHT[:2] + (((0, 1),) * 3,), self.RIGHT[:2] + ((),)]
+        wrong += [self.RIGHT[:2] + (((0, 1), each),) for each in wrong_fractions()]
+        wrong += [(((0, 1), each), *self.RIGHT[1:]) for each in wrong_fractions()[::3]]
+        for each in wrong:
+            self.refuses(InvalidCorners, {"given": each}, led, FORM, each)
+
+    def test_as_many_as_the_form_wants(self):
+        for dimension, sort in CELLS:
+            for many in range(7):
+                for size in range(5):
+                    places = (((1, 2),) * size,) * many
+                    if size == dimension and sort < many < 5:
+                        self.assertIsNone(error_of(led, (dimension, sort, ()), places))
+                    else:
+                        self.refuses(InvalidCorners, {"given": places}, led, (dimension, sort, ()), places)
+
+    def test_form_first(self):
+        for wrong in wrong_forms():
+            self.refuses(InvalidForm, {"given": wrong}, led, wrong, self.RIGHT)
+            self.refuses(InvalidForm, {"given": wrong}, led, wrong, None)
 
 
 if __name__ == "__main__":

@@ -25,6 +25,7 @@ def small(told):
 
 
 SMALL = [told for told in TOLD if small(told)]
+LIGHT_TOLD = [told for told in SMALL if told[2] <= (4, 3, 3, 1)[told[1]]]
 
 
 @lru_cache(maxsize=None)
