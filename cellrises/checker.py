@@ -192,10 +192,11 @@ def _does_not_bound(claim, paper):
     """A chain does not bound: the paper has weights against it."""
     _, parting, held, chain = claim
     check_beside_lot(parting, held, chain)
-    if not is_chain(parting, paper) or not paper or not chain or len(paper[0][0]) != len(chain[0][0]):
+    if not is_chain(parting, paper):
         return False
     lot = lot_of(held)
     weights = chain_row(paper, lot)
+    # Weights of another dimension make 0 of the chain, too.
     if len(weights) < len(paper) or _weighed(chain_row(chain, lot), weights) == NIL:
         return False
     return all([_weighed(row, weights) == NIL for row in borders_free(parting, lot, len(chain[0][0]))])
@@ -241,8 +242,6 @@ def _risen(claim, paper):
     _, parting, held, kind, degree, joined = claim
     check_risen(parting, held, kind, degree, joined)
     check_cell_forms(parting, paper)
-    if paper[0][1] + 1 != joined[0][1]:
-        return False
     check_of_kind(parting, "trimmed", degree_ahead(kind, degree), paper)
     return is_held_on(parting, paper, lot_of(held)) and rises(parting, paper) == joined
 

@@ -84,8 +84,8 @@ class Bent(unittest.TestCase):
                 for wrong in junk():
                     other = claim[:at] + (wrong,) + claim[at + 1:]
                     self.assertIs(accepts(other, paper), is_so(other, paper), (other, paper))
-        for wrong in papers:
-            for other in papers[::3]:
+        for wrong in [(), *papers]:
+            for other in [(), *papers[::3]]:
                 self.assertIs(accepts(wrong, other), False)
 
     def test_values_nested_deep(self):
@@ -171,6 +171,13 @@ class Forms(unittest.TestCase):
             self.assertIs(accepts((name, (PLAIN, PLAIN), ends), paper), (name, paper) == ("ties", (ONE, LESS)))
         self.assertIs(accepts(("settles", (PLAIN, RISING, RISING), (*ends, ends[0])), ()), False)
 
+    def test_numbers_that_all_are_0_tie_nothing(self):
+        ends = (((0,), DOT), ((1,), DOT))
+        self.assertIs(accepts(("ties", (PLAIN,), ends), (ONE, LESS)), True)
+        self.assertIs(accepts(("ties", (PLAIN,), ends), (NIL, NIL)), False)
+        self.assertIs(accepts(("ties", ((1, 0, ()),), ends), (NIL, NIL)), False)
+        self.assertIs(accepts(("ties", ((1, 0, ()),), ends), (NIL, BIG)), True)
+
     def test_weights_for_other_forms(self):
         for weights in ((), ((0, 1), ALONG), (((0, 1), PLAIN),), (((0, 1), ALONG), None), [((0, 1), ALONG)]):
             for name, paper in (("settles", ()), ("misses", RISING), ("ties", (ONE,)), ("ties", ())):
@@ -201,6 +208,23 @@ class Elements(unittest.TestCase):
             self.assertIs(accepts(("jumps against", LOOSE, DOT), paper), expected, paper)
             self.assertIs(accepts(("jumps", HAT), paper), False)
             self.assertIs(accepts(("jumps against", HAT, DOT), paper), False)
+
+    def test_what_is_missed_on_the_cell_itself_is_no_jump(self):
+        low = plus(RISING, times_number(PLAIN, (-1, 2)))
+        element = ((PLAIN, RISING), ((), (ALONG,)))
+        for faces, expected in ((((0, 1), (0, 1)), False), (((0,), (0,)), True)):
+            paper = (*faces, low, (1, 0, ()))
+            self.assertIs(accepts(("jumps", element), paper), expected)
+            self.assertIs(accepts(("jumps against", element, DOT), paper), expected)
+
+    def test_a_jump_on_faces_of_another_dimension_than_the_test(self):
+        element = (whole_span(2, 1, 0), ((), (ALONG,), ()))
+        low = (2, 0, (((), (0, 0), (-1, 2)), ((), (1, 0), ONE)))
+        nought = (2, 0, ())
+        for paper, felt in ((((0, 1), (0, 1), low, nought), STEP), (((0,), (0,), low, nought), DOT)):
+            self.assertIs(accepts(("jumps", element), paper), True)
+            for test in (STEP, DOT):
+                self.assertIs(accepts(("jumps against", element, test), paper), test == felt)
 
     def test_a_jump_that_a_test_does_not_feel(self):
         span = whole_span(2, 2, 0)
