@@ -270,16 +270,21 @@ _CHECKS = {
 }
 
 
-def accepts(claim, paper):
-    """Whether a value is a claim, and another one a paper for it."""
+def _is_shown(claim, paper):
+    """Whether a value is a claim, and another one a paper for it; what is wrong within a part may raise an error."""
     if not isinstance(claim, tuple) or len(claim) == 0 or not isinstance(claim[0], str):
         return False
     name = claim[0]
     if name not in _PARTS or len(claim) != _PARTS[name]:
         return False
     check = _CHECKS[name]
+    return check(claim, paper)
+
+
+def accepts(claim, paper):
+    """Whether a value, whatever it is, is a claim, and another one a paper for it."""
     try:
-        return check(claim, paper)
+        return _is_shown(claim, paper)
     except CellError:
         # A part that is refused where it is told as a parameter makes no claim, and no paper.
         return False
